@@ -1,0 +1,23 @@
+// Package races: programs of threads, searched for races and deadlocks: see DOC.md.
+package races
+
+import (
+	"races/api"
+	"races/check"
+)
+
+// Check tells what is wrong with a program (P3).
+func Check(program string) (api.Errno, int) { return check.Program(program) }
+
+// Play plays a schedule (P4).
+func Play(program string, schedule string) (api.View, api.Errno, int) {
+	return api.View{}, api.OK, 0
+}
+
+// Contexts tells how many contexts a schedule has (P5).
+func Contexts(schedule string) (int, api.Errno) { return 0, api.OK }
+
+// Search looks for races and deadlocks (P6).
+func Search(program string, contexts int, steps int) (api.Report, api.Errno) {
+	return api.Report{}, api.OK
+}
