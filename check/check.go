@@ -9,18 +9,28 @@ import (
 
 // Program answers the first error of a program in the document's order, with its place, or OK and 0.
 func Program(text string) (api.Errno, int) {
+	_, e, at := Read(text)
+	return e, at
+}
+
+// Read answers the outline of a program, or its first error as Program does.
+func Read(text string) (syntax.Outline, api.Errno, int) {
 	if len(text) > api.MaxText {
-		return api.ErrLong, 0
+		return syntax.Outline{}, api.ErrLong, 0
 	}
 	tokens, badByte, cut := token.Cut(text)
 	if !cut {
-		return api.ErrToken, badByte
+		return syntax.Outline{}, api.ErrToken, badByte
 	}
 	outline, badToken, read := syntax.Read(tokens, len(text))
 	if !read {
-		return api.ErrSyntax, badToken
+		return syntax.Outline{}, api.ErrSyntax, badToken
 	}
-	return checkOutline(outline)
+	e, at := checkOutline(outline)
+	if e != api.OK {
+		return syntax.Outline{}, e, at
+	}
+	return outline, api.OK, 0
 }
 
 func checkOutline(o syntax.Outline) (api.Errno, int) {

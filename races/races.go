@@ -4,6 +4,8 @@ package races
 import (
 	"races/api"
 	"races/check"
+	"races/play"
+	"races/steps"
 )
 
 // Check tells what is wrong with a program (P3).
@@ -11,11 +13,11 @@ func Check(program string) (api.Errno, int) { return check.Program(program) }
 
 // Play plays a schedule (P4).
 func Play(program string, schedule string) (api.View, api.Errno, int) {
-	return api.View{}, api.OK, 0
+	return play.Program(program, schedule)
 }
 
 // Contexts tells how many contexts a schedule has (P5).
-func Contexts(schedule string) (int, api.Errno) { return 0, api.OK }
+func Contexts(schedule string) (int, api.Errno) { return steps.Contexts(schedule) }
 
 // Search looks for races and deadlocks (P6).
 func Search(program string, contexts int, steps int) (api.Report, api.Errno) {

@@ -119,13 +119,51 @@ func TestCheckMixtures(t *testing.T) {
 	}
 }
 
-// P1: no call panics, also those that answer nothing yet.
+// P1: what Play answers is an error of its own with a place and nothing else, or a view and 0.
+func playIsSane(t *testing.T, program string, schedule string) {
+	t.Helper()
+	v, e, at := Play(program, schedule)
+	wrong, place := Check(program)
+	switch {
+	case wrong != api.OK:
+		if e != wrong || at != place {
+			t.Errorf("Play(%.80q, %.40q) = %d, %d, Check says %d, %d", program, schedule, e, at, wrong, place)
+		}
+	case len(schedule) > 200:
+		if e != api.ErrLong || at != 0 {
+			t.Errorf("Play(%.80q, %d bytes) = %d, %d", program, len(schedule), e, at)
+		}
+	case e != api.OK && (e != api.ErrStep || at < 0 || at >= len(schedule)), e == api.OK && (at != 0 || v.Text == ""):
+		t.Errorf("Play(%.80q, %.40q) = %+v, %d, %d", program, schedule, v, e, at)
+	}
+	if e != api.OK && v != (api.View{}) {
+		t.Errorf("Play(%.80q, %.40q) = %+v beside %d", program, schedule, v, e)
+	}
+}
+
+// P1: each program with each of its tokens left out, put twice, or put in another's place.
+func TestPlayNeighbours(t *testing.T) {
+	tokens := strings.Fields("if else while return skip true x p m ; , = ! & ? ( ) { }")
+	for _, program := range []string{one, two, three, four, "shared x; proc p(a) { if (?) { x = p(!a & x); } else { return a; } } threads p, p, p;"} {
+		for i := 0; i < len(program); i++ {
+			for _, word := range append(tokens, "") {
+				for _, schedule := range []string{"", "ab", "aAbBcC", "aaaaaaaaaaaa"} {
+					playIsSane(t, program[:i]+word+program[i+1:], schedule)
+				}
+			}
+			playIsSane(t, program[:i], "a")
+			playIsSane(t, program[i:], "a")
+		}
+	}
+}
+
+// P1: no call panics, also Search, that answers nothing yet.
 func TestCallsEnd(t *testing.T) {
 	long := strings.Repeat("a", 1000000)
-	for _, s := range []string{"", "a", "d", "\x00\xff", long} {
+	for _, s := range []string{"", "a", "d", "\x00\xff", "ab?", long[:200], long[:201], long} {
 		for _, c := range answers {
-			Play(c.program, s)
-			Play(s, c.program)
+			playIsSane(t, c.program, s)
+			playIsSane(t, s, c.program)
 		}
 		Contexts(s)
 		for _, n := range []int{-1 << 63, -1, 0, 1, 6, 7, 60, 61, 1<<63 - 1} {

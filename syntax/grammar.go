@@ -8,7 +8,7 @@ func Read(tokens []token.Token, length int) (Outline, int, bool) {
 	p := parser{tokens: tokens, proc: -1}
 	p.program()
 	if !p.failed {
-		return Outline{Names: p.names, Calls: p.calls}, 0, true
+		return Outline{Names: p.names, Calls: p.calls, Statements: p.statements, Nodes: p.nodes}, 0, true
 	}
 	if p.next < 0 || p.next >= len(tokens) {
 		return Outline{}, length, false
@@ -44,134 +44,141 @@ func (p *parser) procedure() {
 		p.takeNames(Param)
 	}
 	p.leave(")")
-	p.block()
+	own := Block{Proc: p.proc, Owner: -1}
+	end := p.block(own)
+	p.add(Statement{Kind: End, At: end, In: own, Target: -1, Name: -1})
 }
 
-// block goes on only while nothing has failed: then each statement takes a token or fails.
-func (p *parser) block() {
+// block answers the place of its `}`. It goes on only while nothing has failed: then each statement takes a token or
+// fails.
+func (p *parser) block(in Block) int {
 	p.enter("{")
 	for !p.failed && !p.sees("}") {
-		p.statement()
+		p.statement(in)
 	}
+	end := p.ahead(0)
 	p.leave("}")
+	return end.At
 }
 
-func (p *parser) statement() {
+func (p *parser) statement(in Block) {
 	t := p.ahead(0)
+	s := Statement{At: t.At, In: in, Target: -1, Name: -1}
 	switch t.Text {
 	case "if":
-		p.branch()
+		p.branch(s)
 	case "while":
-		p.take("while")
-		p.bracketed()
-		p.block()
+		p.loop(s)
 	case "assume":
-		p.take("assume")
-		p.expr()
-		p.take(";")
-	case "acquire", "release":
-		p.take(t.Text)
-		p.takeName(LockUse)
-		p.take(";")
+		p.assume(s)
+	case "acquire":
+		s.Kind = Acquire
+		p.lockUse(s, t.Text)
+	case "release":
+		s.Kind = Release
+		p.lockUse(s, t.Text)
 	case "return":
-		p.giveBack()
+		p.giveBack(s)
 	case "skip":
-		p.take("skip")
-		p.take(";")
+		p.skip(s)
 	default:
-		p.assignOrCall()
+		p.assignOrCall(s)
 	}
 }
 
-func (p *parser) branch() {
+func (p *parser) branch(s Statement) {
 	p.take("if")
-	p.bracketed()
-	p.block()
+	s.Kind = If
+	p.condition(&s)
+	owner := p.add(s)
+	p.block(Block{Proc: s.In.Proc, Owner: owner})
 	if p.accept("else") {
-		p.block()
+		p.block(Block{Proc: s.In.Proc, Owner: owner, Else: true})
 	}
 }
 
-func (p *parser) bracketed() {
+func (p *parser) loop(s Statement) {
+	p.take("while")
+	s.Kind = While
+	p.condition(&s)
+	owner := p.add(s)
+	p.block(Block{Proc: s.In.Proc, Owner: owner})
+}
+
+func (p *parser) condition(s *Statement) {
 	p.enter("(")
-	p.expr()
+	p.value(s)
 	p.leave(")")
 }
 
-func (p *parser) giveBack() {
+func (p *parser) assume(s Statement) {
+	p.take("assume")
+	s.Kind = Assume
+	p.value(&s)
+	p.take(";")
+	p.add(s)
+}
+
+func (p *parser) lockUse(s Statement, word string) {
+	p.take(word)
+	s.Name = p.takeName(LockUse)
+	p.take(";")
+	p.add(s)
+}
+
+func (p *parser) giveBack(s Statement) {
 	p.take("return")
+	s.Kind = Return
 	if !p.sees(";") {
-		p.expr()
+		p.value(&s)
 	}
 	p.take(";")
+	p.add(s)
 }
 
-func (p *parser) assignOrCall() {
+func (p *parser) skip(s Statement) {
+	p.take("skip")
+	s.Kind = Skip
+	p.take(";")
+	p.add(s)
+}
+
+func (p *parser) assignOrCall(s Statement) {
+	s.Kind = CallProc
 	if p.seesCall() {
-		p.call()
+		p.call(&s)
 	} else {
-		p.takeName(Truth)
+		s.Target = p.takeName(Truth)
 		p.take("=")
-		p.assigned()
+		p.assigned(&s)
 	}
 	p.take(";")
+	p.add(s)
 }
 
-func (p *parser) assigned() {
+func (p *parser) assigned(s *Statement) {
 	if p.seesCall() {
-		p.call()
-	} else {
-		p.expr()
+		p.call(s)
+		return
 	}
+	s.Kind = Assign
+	p.value(s)
 }
 
-func (p *parser) call() {
+func (p *parser) call(s *Statement) {
 	name := p.ahead(0)
-	p.takeName(Callee)
+	s.Name = p.takeName(Callee)
 	p.enter("(")
-	values := 0
 	if !p.sees(")") {
-		values = p.values()
+		p.values(s)
 	}
 	p.leave(")")
-	p.calls = append(p.calls, Call{Word: name.Text, At: name.At, Values: values})
+	p.calls = append(p.calls, Call{Word: name.Text, At: name.At, Values: len(s.Values)})
 }
 
-func (p *parser) values() int {
-	p.expr()
-	count := 1
+func (p *parser) values(s *Statement) {
+	p.value(s)
 	for p.accept(",") {
-		p.expr()
-		count++
-	}
-	return count
-}
-
-func (p *parser) expr() {
-	p.term()
-	for p.accept("|") {
-		p.term()
-	}
-}
-
-func (p *parser) term() {
-	p.factor()
-	for p.accept("&") {
-		p.factor()
-	}
-}
-
-func (p *parser) factor() {
-	for p.sees("!") {
-		p.take("!")
-	}
-	t := p.ahead(0)
-	switch t.Text {
-	case "(":
-		p.bracketed()
-	case "true", "false", "?":
-		p.take(t.Text)
-	default:
-		p.takeName(Truth)
+		p.value(s)
 	}
 }

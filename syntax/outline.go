@@ -30,8 +30,11 @@ type Call struct {
 	Values int // how many EXPRs it has
 }
 
-// Outline is what a program's names are checked by; both lists are in the order of the text.
+// Outline is a program as it stands in the text: what its names are checked by, and what it is planned from. Its lists
+// are in the order of the text; one names an item of another by its number, from 0 on.
 type Outline struct {
-	Names []Name
-	Calls []Call
+	Names      []Name
+	Calls      []Call
+	Statements []Statement
+	Nodes      []Node
 }

@@ -13,8 +13,11 @@ type parser struct {
 	depth  int
 	proc   int
 	failed bool
-	names  []Name
-	calls  []Call
+
+	names      []Name
+	calls      []Call
+	statements []Statement
+	nodes      []Node
 }
 
 // ahead answers a token behind the one that is next, or one without text if there is none.
@@ -54,14 +57,16 @@ func (p *parser) accept(text string) bool {
 	return true
 }
 
-func (p *parser) takeName(role Role) {
+// takeName answers the number of the name that it takes, -1 if there is none.
+func (p *parser) takeName(role Role) int {
 	t := p.ahead(0)
 	if !t.Name {
 		p.failed = true
-		return
+		return -1
 	}
 	p.names = append(p.names, Name{Word: t.Text, At: t.At, Role: role, Proc: p.proc})
 	p.next++
+	return len(p.names) - 1
 }
 
 func (p *parser) takeNames(role Role) {
@@ -84,6 +89,18 @@ func (p *parser) enter(sign string) {
 func (p *parser) leave(sign string) {
 	p.take(sign)
 	p.depth--
+}
+
+// add answers the number of the statement that it adds.
+func (p *parser) add(s Statement) int {
+	p.statements = append(p.statements, s)
+	return len(p.statements) - 1
+}
+
+// addNode answers the number of the node that it adds.
+func (p *parser) addNode(n Node) int {
+	p.nodes = append(p.nodes, n)
+	return len(p.nodes) - 1
 }
 
 func (p *parser) takeEnd() {

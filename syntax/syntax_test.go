@@ -1,6 +1,7 @@
 package syntax
 
 import (
+	"fmt"
 	"strings"
 	"testing"
 
@@ -44,7 +45,7 @@ func compare(t *testing.T, o *oracle, words []string) {
 	if ok != right || place != want {
 		t.Errorf("Read(%q) = %d, %v, want %d, %v", text, place, ok, want, right)
 	}
-	if !ok && (outline.Names != nil || outline.Calls != nil) {
+	if !ok && (outline.Names != nil || outline.Calls != nil || outline.Statements != nil || outline.Nodes != nil) {
 		t.Errorf("Read(%q) answers an outline beside a fault", text)
 	}
 }
@@ -151,6 +152,91 @@ func TestOutline(t *testing.T) {
 	for i := range calls {
 		if o.Calls[i] != calls[i] {
 			t.Errorf("call %d is %v, want %v", i, o.Calls[i], calls[i])
+		}
+	}
+}
+
+func TestStatements(t *testing.T) {
+	text := "shared x;locks m;proc p(a){x=a;x=p(a);p(?);if(a){skip;}else{while(x){acquire m;}}release m;}proc q(){assume x;return;return x;}threads p;"
+	o, _, ok := Read(cut(t, text), len(text))
+	if !ok {
+		t.Fatal("not read")
+	}
+	own, other := Block{0, -1, false}, Block{1, -1, false}
+	wants := []struct {
+		kind         Kind
+		text         string
+		in           Block
+		target, name string
+		values       int
+	}{
+		{Assign, "x=a;", own, "x", "", 1}, {CallProc, "x=p(a)", own, "x", "p", 1}, {CallProc, "p(?)", own, "", "p", 1}, {If, "if(a)", own, "", "", 1},
+		{Skip, "skip", Block{0, 3, false}, "", "", 0}, {While, "while(x)", Block{0, 3, true}, "", "", 1}, {Acquire, "acquire m", Block{0, 5, false}, "", "m", 0},
+		{Release, "release m", own, "", "m", 0}, {End, "}proc q", own, "", "", 0},
+		{Assume, "assume x", other, "", "", 1}, {Return, "return;", other, "", "", 0}, {Return, "return x;", other, "", "", 1}, {End, "}threads", other, "", "", 0},
+	}
+	if len(o.Statements) != len(wants) {
+		t.Fatalf("%d statements", len(o.Statements))
+	}
+	word := func(i int) string {
+		if i < 0 {
+			return ""
+		}
+		return o.Names[i].Word
+	}
+	for i, want := range wants {
+		s := o.Statements[i]
+		if s.Kind != want.kind || s.At != strings.Index(text, want.text) || s.In != want.in || word(s.Target) != want.target || word(s.Name) != want.name || len(s.Values) != want.values {
+			t.Errorf("statement %d is %+v, want %+v", i, s, want)
+		}
+	}
+}
+
+// show writes an EXPR with a bracket around each part.
+func show(o Outline, i int) string {
+	n := o.Nodes[i]
+	switch n.Sign {
+	case True:
+		return "1"
+	case False:
+		return "0"
+	case Choice:
+		return "?"
+	case Named:
+		return o.Names[n.Name].Word
+	case Not:
+		return "!" + show(o, n.Right)
+	}
+	return fmt.Sprintf("(%s%c%s)", show(o, n.Left), "&|"[n.Sign-And], show(o, n.Right))
+}
+
+func TestExprs(t *testing.T) {
+	for _, c := range []struct{ values, want string }{
+		{"true", "1"}, {"a,false", "a 0"}, {"!?", "!?"}, {"!!(a)", "!!a"}, {"a|b|c", "((a|b)|c)"}, {"a&b&c", "((a&b)&c)"}, {"a|b&c", "(a|(b&c))"},
+		{"a&b|c", "((a&b)|c)"}, {"!a&b", "(!a&b)"}, {"!(a&b)", "!(a&b)"}, {"a&(b|c)&!d", "((a&(b|c))&!d)"}, {"a|b,((c)),?&?", "(a|b) c (?&?)"}, {"", ""},
+	} {
+		text := "proc p(){skip;assume x;p(" + c.values + ");}threads p;"
+		o, _, ok := Read(cut(t, text), len(text))
+		if !ok {
+			t.Fatalf("%q is not read", text)
+		}
+		var list []string
+		first := 1
+		for _, e := range o.Statements[2].Values {
+			if e.First != first || e.Last < e.First {
+				t.Errorf("%q: %+v begins not at %d", c.values, e, first)
+			}
+			for i := e.First; i <= e.Last; i++ {
+				n := o.Nodes[i]
+				if n.Sign >= Not && (n.Right < e.First || n.Right >= i) || n.Sign >= And && (n.Left < e.First || n.Left >= n.Right) {
+					t.Errorf("%q: node %d is %+v", c.values, i, n)
+				}
+			}
+			first = e.Last + 1
+			list = append(list, show(o, e.Last))
+		}
+		if got := strings.Join(list, " "); got != c.want || first != len(o.Nodes) {
+			t.Errorf("%q is read as %q", c.values, got)
 		}
 	}
 }
