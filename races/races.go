@@ -5,6 +5,7 @@ import (
 	"races/api"
 	"races/check"
 	"races/play"
+	"races/search"
 	"races/steps"
 )
 
@@ -21,5 +22,5 @@ func Contexts(schedule string) (int, api.Errno) { return steps.Contexts(schedule
 
 // Search looks for races and deadlocks (P6).
 func Search(program string, contexts int, steps int) (api.Report, api.Errno) {
-	return api.Report{}, api.OK
+	return search.Program(program, contexts, steps)
 }

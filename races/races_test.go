@@ -157,7 +157,39 @@ func TestPlayNeighbours(t *testing.T) {
 	}
 }
 
-// P1: no call panics, also Search, that answers nothing yet.
+// P1: what Search answers is an error and nothing else, or a report with as many points as there may be.
+func searchIsSane(t *testing.T, program string, contexts int, steps int) {
+	t.Helper()
+	r, e := Search(program, contexts, steps)
+	wrong, _ := Check(program)
+	within := contexts >= 1 && contexts <= 6 && steps >= 0 && steps <= 60
+	switch {
+	case wrong != api.OK && e != wrong, wrong == api.OK && within == (e == api.ErrArg), e > api.ErrArg && e != api.ErrBig:
+		t.Errorf("Search(%.80q, %d, %d) = %+v, %d, Check says %d", program, contexts, steps, r, e, wrong)
+	case e != api.OK && r != (api.Report{}):
+		t.Errorf("Search(%.80q, %d, %d) = %+v beside %d", program, contexts, steps, r, e)
+	case e == api.OK && (r.Points < 1 || r.Points > 600 || !r.Race && r.RaceBy != "" || !r.Dead && r.DeadBy != "" || r.Whole && (steps == 0 || r.Race && r.Dead)):
+		t.Errorf("Search(%.80q, %d, %d) = %+v", program, contexts, steps, r)
+	}
+}
+
+// P1: each program with each of its bytes left out, or a token put in its place, and cut off anywhere.
+func TestSearchNeighbours(t *testing.T) {
+	tokens := strings.Fields("if while return x p m ; , = ! & ? ( ) { }")
+	for _, program := range []string{one, two, three, four, "shared x; proc p(a) { if (?) { x = p(!a & x); } else { return a; } } threads p, p, p;"} {
+		for i := 0; i < len(program); i++ {
+			for _, word := range append(tokens, "") {
+				searchIsSane(t, program[:i]+word+program[i+1:], 1, 60)
+				searchIsSane(t, program[:i]+word+program[i+1:], 6, 7)
+				searchIsSane(t, program[:i]+word+program[i+1:], 7, 7)
+			}
+			searchIsSane(t, program[:i], 2, 5)
+			searchIsSane(t, program[i:], 2, 5)
+		}
+	}
+}
+
+// P1: no call panics.
 func TestCallsEnd(t *testing.T) {
 	long := strings.Repeat("a", 1000000)
 	for _, s := range []string{"", "a", "d", "\x00\xff", "ab?", long[:200], long[:201], long} {
@@ -167,9 +199,9 @@ func TestCallsEnd(t *testing.T) {
 		}
 		Contexts(s)
 		for _, n := range []int{-1 << 63, -1, 0, 1, 6, 7, 60, 61, 1<<63 - 1} {
-			Search(s, n, n)
-			Search(answers[8].program, n, 0)
-			Search(answers[8].program, 1, n)
+			searchIsSane(t, s, n, n)
+			searchIsSane(t, answers[8].program, n, 0)
+			searchIsSane(t, answers[8].program, 1, n)
 		}
 	}
 }
